@@ -1,0 +1,1 @@
+"""Touchcaps: lists by last use, touched, forgotten and cut short."""
