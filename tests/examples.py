@@ -34,6 +34,81 @@ RULES = r'''
     raises NoPlace(place=2)
 '''
 
+FORMS = r'''
+    >>> one = Rule.of("touch a; cap 3; touch b; cap 3; forget a")
+    >>> two, still = Rule.of("cap 3; touch a; touch b; cap 4"), Rule.of("touch a; touch b; cap 2; forget b")
+    >>> one(("x", "y", "a")), front(one), gone(one), bounds(one), constant(one), constant(still)
+    (('b', 'x'), ('b',), ('a',), ((('a', 'b'), 1),), None, ('a',))
+    >>> bounds(two), bounds(still), gone(still), bounds(Rule()), bounds(Rule.of("cap 3; touch a; cap 3"))
+    ((((), 3), (('a', 'b'), 2)), (((), 0),), (), (), ((('a',), 2),))
+    >>> follows((("a",), 3), ((), 3)), follows(((), 3), (("a",), 2)), follows(((), 3), (("a", "b"), 2)), follows((("a",), 2), ((), 3))
+    (True, True, False, False)
+    >>> tight(((("a", "b"), 2), ((), 3), (("a",), 3))), tight(()), tight((((), 5), ((), 4)))
+    ((((), 3), (('a', 'b'), 2)), (), (((), 4),))
+    >>> form_of(one), form_of(still), is_form(form_of(two)), is_form(((), (), (((), 0),))), is_form((("a",), ("a",), ())), is_form(((), ("a",), (((), 3), (("a",), 2))))
+    ((('b',), ('a',), ((('a', 'b'), 1),)), (('a',), (), (((), 0),)), True, True, False, False)
+    >>> plain(two).text, plain(one).text, plain(still).text, plain(Rule.of("touch q; cap 1; forget q")).text, rule_of((("a",), (), ())).text
+    ('cap 3; forget a; forget b; cap 2; touch a; touch b', 'forget a; forget b; cap 1; touch b', 'touch a; cap 1', 'touch a; cap 1; forget a', 'touch a')
+    >>> by_form(form_of(two), ("x", "a", "y", "z", "v")), two(("x", "a", "y", "z", "v")), by_form((("q",), (), (((), 0),)), ("x",))
+    (('b', 'a', 'x', 'y'), ('b', 'a', 'x', 'y'), ('q',))
+    >>> tight(((("a",), 2), (("b",), 1)))
+    raises Apart(one=('a',), other=('b',))
+'''
+
+ORDER = r'''
+    >>> one, other = Rule.of("touch a; cap 3"), Rule.of("cap 3; touch a")
+    >>> compare(one, other), compare(other, one), compare(Rule.of("touch a; touch b"), Rule.of("touch b; touch a")), compare(one, Rule.of("cap 2; touch b"))
+    ('within', 'around', 'shuffled', 'neither')
+    >>> reach(one, ()), reach(one, ("a",)), reach(other, ("a", "b")), reach(Rule.of("forget a"), ()), reach(Rule.of("touch a; cap 1"), ("a",))
+    (3, 2, 3, None, 0)
+    >>> row = outside_row(other, one)
+    >>> len([name for name in other(row) if name not in one(row)]) > 0, outside_row(one, other), parting_row(one, one), one(parting_row(one, other)) == other(parting_row(one, other))
+    (True, None, None, False)
+    >>> height(one), height(other), height(Rule.of("cap 1; touch a")), height(Rule.of("touch a")), [own.text for own in above(one)], [own.text for own in below(one)]
+    (3, 4, 0, None, ['cap 3; touch a'], ['cap 2; touch a'])
+    >>> near, wide = Rule.of("touch a; cap 3; touch b; touch a"), Rule.of("touch b; cap 3; touch a")
+    >>> compare(near, wide), height(near), [own.text for own in above(near)], [own.text for own in least_around((near, wide))]
+    ('neither', 4, ['cap 3; forget a; forget b; cap 2; touch b; touch a'], ['cap 3; forget a; forget b; cap 2; touch b; touch a'])
+    >>> sorted([own.text for own in greatest_within((near, wide))]), len(climb(near, Rule.of("cap 3; touch b; touch a"))), climb(near, wide)
+    (['cap 2; touch b; touch a', 'forget a; forget b; cap 1; touch b; touch a'], 3, None)
+    >>> least_around((one, Rule.of("cap 3; touch b; forget a")))
+    raises OtherNames(name='a')
+'''
+
+BEHIND = r'''
+    >>> p, whole = Rule.of("touch a; cap 3"), Rule.of("touch a; touch b; cap 3")
+    >>> p >> Rule.of("touch b; cap 3") == whole, p >> rest_of(p, whole) == whole, rest_of(p, Rule.of("touch a; touch b; cap 4"))
+    (True, True, None)
+    >>> far = Rule.of("touch b; cap 3")
+    >>> front_of(far, whole) >> far == whole, front_of(Rule.of("touch b; cap 2"), whole), front_of(Rule.of("touch a"), whole)
+    (True, None, None)
+    >>> steady(p), steady(Rule.of("cap 3; touch a")), settles(Rule()), settles(p), settles(Rule.of("cap 3; touch a")), settles(Rule.of("cap 1; touch a"))
+    (True, False, 0, 1, 2, 2)
+    >>> idle_behind(p, Rule.of("touch a; cap 5")), idle_behind(p, Rule.of("cap 2")), idle_ahead(p, Rule.of("forget a")), idle_ahead(Rule.of("cap 3; touch a"), Rule.of("touch a"))
+    (True, False, True, False)
+    >>> either_order(p, Rule.of("touch a")), either_order(p, Rule.of("cap 2")), either_order(p, Rule.of("touch b"))
+    (True, False, False)
+    >>> x, y = meeting(Rule.of("cap 3; touch a"), Rule.of("cap 3; touch b"))
+    >>> Rule.of("cap 3; touch a") >> x == Rule.of("cap 3; touch b") >> y, meeting(Rule.of("cap 3; touch a"), Rule.of("cap 2; touch b")), meeting(Rule.of("touch a; cap 1"), p)
+    (True, None, None)
+'''
+
+NUMBERS = r'''
+    >>> [how_many_bounds(number) for number in range(5)], [how_many(number) for number in range(4)], how_many_to(0, 3), how_many_to(1, 2), how_many_to(2, 1), how_many_to(2, 2)
+    ([1, 2, 5, 16, 65], [1, 4, 25, 256], 4, 10, 25, 50)
+    >>> [nth(("a",), 2, number).text for number in range(4)], number_of(one), number_of(Rule.of("cap 7"))
+    (['cap 2; forget a', 'forget a; cap 2', 'cap 2; touch a', 'forget a; cap 2; touch a'], 3, 0)
+    >>> low, high = Rule.of("cap 1; touch a"), Rule.of("cap 3; touch a")
+    >>> many_between(low, high), many_between(high, low), [nth_between(low, high, number).text for number in range(5)]
+    (5, 0, ['cap 1; touch a', 'forget a; cap 1; touch a', 'cap 2; touch a', 'forget a; cap 2; touch a', 'cap 3; touch a'])
+    >>> rank_between(low, high, one), many_between(near, Rule.of("cap 3; touch b; touch a"))
+    (3, 3)
+    >>> rank_between(low, high, Rule.of("cap 4; touch a"))
+    raises NotBetween(strange='cap 4; touch a')
+    >>> nth(("a",), 2, 4)
+    raises NoNumber(number=4)
+'''
+
 
 def parts_of(text):
     """Each line that is run, with the line that stands below it or None."""

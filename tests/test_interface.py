@@ -3,7 +3,7 @@
 import inspect
 import unittest
 
-from touchcaps import rows, rules, steps
+from touchcaps import behind, forms, numbers, order, rows, rules, steps
 
 ARGUMENTS = {
     rows: {
@@ -13,6 +13,26 @@ ARGUMENTS = {
     },
     steps: {"Step": ["kind", "what"]},
     rules: {"Rule": ["steps"]},
+    forms: {
+        "constant": ["rule"], "front": ["rule"], "gone": ["rule"], "bounds": ["rule"], "follows": ["bound", "other"],
+        "tight": ["bounds"], "form_of": ["rule"], "is_form": ["thing"], "by_form": ["form", "row"], "rule_of": ["form"],
+        "plain": ["rule"],
+    },
+    order: {
+        "compare": ["p", "q"], "reach": ["p", "names"], "outside_row": ["p", "q"], "parting_row": ["p", "q"],
+        "height": ["p"], "above": ["p"], "below": ["p"], "climb": ["p", "q"], "least_around": ["rules"],
+        "greatest_within": ["rules"],
+    },
+    behind: {
+        "steady": ["p"], "settles": ["p"], "idle_behind": ["p", "other"], "idle_ahead": ["p", "other"],
+        "either_order": ["p", "other"], "rest_of": ["p", "whole"], "front_of": ["p", "whole"],
+        "meeting": ["p", "other"],
+    },
+    numbers: {
+        "how_many_bounds": ["number"], "how_many": ["number"], "how_many_to": ["number", "most"],
+        "nth": ["names", "last", "number"], "number_of": ["rule"], "many_between": ["p", "q"],
+        "nth_between": ["p", "q", "number"], "rank_between": ["p", "q", "third"],
+    },
 }
 OWN = {
     steps.Step: ["__init__", "of", "kind", "what", "text", "__call__", "__eq__"],

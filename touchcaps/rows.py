@@ -2,6 +2,8 @@
 
 from touchcaps.errors import BadText
 
+LETTERS = "abcdefghijklmnopqrstuvwxyz"
+
 
 def is_name(thing):
     if not isinstance(thing, str) or thing == "":
@@ -46,3 +48,13 @@ def touched(row, name):
 
 def capped(row, number):
     return tuple(row[:number])
+
+
+def new_names(many, names):
+    """So many different NAMEs that are none of these."""
+    found = []
+    words = [""]
+    while len(found) < many:
+        words = [word + letter for word in words for letter in LETTERS]
+        found.extend([word for word in words if word not in names])
+    return found[:many]

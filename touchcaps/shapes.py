@@ -3,6 +3,8 @@
 A FORM is (front, gone, bounds), a BOUND is (names, number): see point 6 of the document.
 """
 
+from touchcaps.chains import chain_within, tight_chain
+from touchcaps.errors import OtherNames
 from touchcaps.steps import Step, row_behind_step
 
 CONSTANT_BOUNDS = (((), 0),)
@@ -46,21 +48,6 @@ def cap_bounds(steps):
     return found
 
 
-def follows_from(bound, other):
-    names, number = bound
-    others, many = other
-    return number >= many + len([name for name in others if name not in names])
-
-
-def tight_ones(bounds):
-    """Those of the BOUNDs that follow from no other one, equal ones once, in their order."""
-    found = []
-    for bound in bounds:
-        if bound not in found and not any([bound != other and follows_from(bound, other) for other in bounds]):
-            found.append(bound)
-    return tuple(found)
-
-
 def shape_of(steps):
     """The FORM of the Steps."""
     # No cap takes away a NAME of the front: so it is what becomes of (), and so is the ROW of constant Steps.
@@ -70,7 +57,7 @@ def shape_of(steps):
         return (front, (), CONSTANT_BOUNDS)
     gone = tuple([name for name in names_in(steps) if name not in front])
     # Later caps know more NAMEs: so those with fewer names stand first already.
-    return (front, gone, tight_ones(found))
+    return (front, gone, tight_chain(found))
 
 
 def constant_steps(row):
@@ -109,6 +96,24 @@ def shows_no_more(form, other):
     # Of the ROW of a single NAME that it does not name, what is not constant shows this NAME, too.
     if not all([name in gone for name in wide_gone]):
         return False
-    # There are always NAMEs that neither names. All of them that keep the BOUNDs keep another one exactly if it follows
-    # from a single one of these, as their sets lie within one another. The BOUND of a constant FORM follows from none.
-    return all([any([follows_from(bound, own) for own in bounds]) for bound in wide_bounds])
+    # There are always NAMEs that neither names. The BOUND of a constant FORM follows from no other one.
+    return chain_within(bounds, wide_bounds)
+
+
+def is_bounded(form):
+    """Whether what has this FORM is not constant and has a BOUND."""
+    return form[2] not in ((), CONSTANT_BOUNDS)
+
+
+def names_of(form):
+    """The set of the NAMEs that what has this FORM names."""
+    front, gone, _ = form
+    return tuple(sorted([*front, *gone]))
+
+
+def check_names(form, other):
+    """Raises OtherNames(name) if what has these FORMs is not alike in names."""
+    fronts = sorted(set(form[0]) ^ set(other[0]))
+    gones = sorted(set(form[1]) ^ set(other[1]))
+    if fronts != [] or gones != []:
+        raise OtherNames(min([*fronts, *gones]))

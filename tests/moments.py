@@ -1,0 +1,15 @@
+"""Calls that must be answered in a moment."""
+
+from time import perf_counter
+
+MOMENT = 2
+
+
+def at_once(function, *values):
+    """What the function returns; it must not take longer than a moment."""
+    begun = perf_counter()
+    result = function(*values)
+    passed = perf_counter() - begun
+    if passed > MOMENT:
+        raise AssertionError(f"{function.__name__} took {passed:.1f} seconds")
+    return result
