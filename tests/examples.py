@@ -109,6 +109,75 @@ NUMBERS = r'''
     raises NoNumber(number=4)
 '''
 
+KNOWN = r'''
+    >>> late, soon = Rule.of("touch a; cap 3"), Rule.of("cap 3; touch a")
+    >>> can_come(late, ("a", "x", "y")), strange_place(late, ("a", "x", "y", "z")), strange_place(late, ("x",)), strange_place(late, ()), least_ahead(late, ("a", "x"))
+    (True, 3, 0, 0, ('x',))
+    >>> was_there(soon, ("a", "x"), "x"), was_there(soon, ("a", "x"), "a"), was_there(soon, ("a", "x"), "z"), was_there(soon, ("a", "x", "y"), "z"), was_there(soon, ("x",), "x")
+    ('yes', 'open', 'no', 'open', None)
+    >>> lost(soon, ("a", "x")), lost(soon, ("a", "x", "y")), lengths(soon, ("a", "x")), lengths(soon, ("a", "x", "y"))
+    ((0, 0), (0, None), (1, 2), (2, None))
+    >>> lost(soon, ("a", "x", "y"), length=4), was_there(soon, ("a", "x", "y"), "a", length=4), was_there(soon, ("a", "x", "y"), "a", length=3), was_there(soon, ("a", "x", "y"), "z", length=3)
+    ((1, 1), 'yes', 'yes', 'no')
+    >>> places(late, ("a", "x", "y"), "y"), places(soon, ("a", "x", "y", "z"), "z"), places(soon, ("a", "x"), "a"), sight(late), sight(soon), sight(Rule.of("touch a"))
+    ((1, 2), (2, 2), None, 3, 3, None)
+    >>> both = Rule.of("cap 3; touch a; touch b; cap 4")
+    >>> how_many_ahead(both, ("b", "a")), [nth_ahead(both, ("b", "a"), number) for number in range(5)], rank_ahead(late, ("a", "x"), ("x", "a")), how_many_ahead(both, ("b", "a", "x"))
+    (5, [(), ('a',), ('a', 'b'), ('b',), ('b', 'a')], 2, None)
+    >>> nth_ahead(late, ("a", "x", "y"), 0)
+    raises Endless()
+'''
+
+COSTS = r'''
+    >>> one = Rule.of("touch b; cap 3; touch a; touch b")
+    >>> touched_once(one), len(fewest(one)), fewest(one) == one, needless(one), touched_once(Rule.of("touch a; touch b")), touched_once(Rule.of("touch b; touch a; cap 2"))
+    (('a',), 4, True, (), ('a', 'b'), ('a', 'b'))
+    >>> needless(Rule.of("touch a; touch b; touch a; cap 9; cap 4")), len(fewest(Rule.of("touch q; cap 1; forget q"))), len(fewest(Rule.of("cap 4; touch a; cap 4; touch a"))), fewest(Rule()).text
+    ((0, 3), 3, 2, '-')
+    >>> prices = {"touch": 2, "forget": 1, "cap": 5}
+    >>> price_of(one, prices), price_of(cheapest(one, prices), prices), cheapest(one, prices) == one
+    (11, 10, True)
+    >>> p = Rule.of("touch a; touch b")
+    >>> p >> further(p, Rule.of("touch b; touch a")) == Rule.of("touch b; touch a"), len(further(p, Rule.of("touch b; touch a"))), further(p, Rule.of("forget a; touch b")).text, further(p, Rule.of("touch a")), further(p, p).text
+    (True, 1, 'forget a', None, '-')
+    >>> len(further(p, Rule.of("touch a; cap 1"))), len(further(p, Rule.of("touch c; touch a; touch b; cap 2"))), further(Rule.of("touch a; cap 1"), p), len(further(Rule.of("touch a; cap 3"), Rule.of("touch a; touch b; cap 3")))
+    (2, 1, None, 2)
+    >>> logs = ((("x", "y"), ("x",)),)
+    >>> [rule.text for rule in all_fitting(("a",), 1, logs)], fits(Rule.of("cap 1"), logs), sure(("a",), 1, logs, ("x", "a")), sure(("a",), 1, logs, ("a", "x"))
+    (['cap 1', 'cap 1; forget a', 'forget a; cap 1'], True, ('x',), None)
+    >>> len(set([rule(question(("a",), 1, logs)) for rule in all_fitting(("a",), 1, logs)])) > 1, question(("a",), 1, (*logs, (("a", "x", "y"), ("a",))))
+    (True, None)
+    >>> late = Rule.of("touch a; cap 3")
+    >>> len(telling_rows(("a", "b"), 2)), read_off(("a", "b"), 2, [late(row) for row in telling_rows(("a", "b"), 2)]).text
+    (4, 'forget a; cap 2; touch a')
+    >>> both = Rule.of("cap 3; touch a; touch b; cap 4")
+    >>> in_order(both, ("b", "c", "a")), in_order(late, ("a",)), in_order(one, ("b", "a")), in_order(one, ("a", "b")), in_order(both, ("a", "c"))
+    (True, True, True, False, False)
+    >>> hunt = Hunt(("a", "b"), 5)
+    >>> [hunt.tell(both(hunt.ask)) for turn in range(3) if hunt.rule is None], hunt.rule == both, len(hunt), hunt.ask
+    ([None, None, None], True, 3, None)
+    >>> hunt.tell(())
+    raises Known()
+    >>> sure(("a",), 1, ((("x",), ("y",)),), ())
+    raises Unfit()
+'''
+
+DEVICES = r'''
+    >>> used(("c", "b", "c", "a")), all_used((("a", "b"), ("b", "c"))), used(())
+    (('a', 'c', 'b'), ('a', 'b', 'c'), ())
+    >>> two = (("a", "b"), ("b", "c"))
+    >>> how_many_joined(two, ()), [nth_joined(two, ("x",), number) for number in range(3)], how_many_joined(two, ("x",), cap=1), rank_joined(two, (), ("b", "c"), cap=2)
+    (3, [('a', 'b', 'c', 'x'), ('b', 'a', 'c', 'x'), ('b', 'c', 'a', 'x')], 2, 2)
+    >>> joined_by(two, ("x", "a"), (1, 0, 0, 1)), joined_by(two, ("x", "a"), (1, 0, 0, 1), cap=2), is_order(two, (0, 0, 1)), order_to(two, (), ("c", "b", "a")), is_joined(two, (), ("b", "c", "a"))
+    (('b', 'a', 'c', 'x'), ('b', 'a'), False, None, True)
+    >>> surely_ahead(two, "b", "c"), surely_ahead(two, "a", "c"), sure_pairs(two), place_range(two, "b"), place_range(two, "c"), place_range(two, "a")
+    (True, False, (('b', 'c'),), (0, 1), (1, 2), (0, 2))
+    >>> [stands(two, ("x", "y"), name, cap=3) for name in "abcxz"], stands(two, ("x", "y"), "a", cap=1), cap_for(two, ("x", "y"), "c"), cap_for(two, ("x", "y"), "y"), cap_for(two, ("x", "y"), "z")
+    (['yes', 'yes', 'yes', 'no', 'no'], 'open', 3, 5, None)
+    >>> surely_ahead(two, "b", "x")
+    raises NotUsed(name='x')
+'''
+
 
 def parts_of(text):
     """Each line that is run, with the line that stands below it or None."""

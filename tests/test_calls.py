@@ -1,17 +1,21 @@
-"""Point 2 for what points 6 to 9 list: lists for tuples, arguments by names, answers that belong to the caller."""
+"""Point 2 for what points 6 to 12 list: lists for tuples, arguments by names, answers that belong to the caller."""
 
 import inspect
 import unittest
 from copy import deepcopy
 
-from tests.test_interface import ARGUMENTS
-from touchcaps import behind, forms, numbers, order
-from touchcaps.errors import Apart, NoNumber, NotBetween, OtherNames
+from tests.test_interface import ARGUMENTS, arguments
+from touchcaps import behind, costs, devices, forms, known, numbers, order, tells
+from touchcaps.errors import Apart, Endless, NoNumber, NotAhead, NotBetween, NotJoined, NotUsed, OtherNames, Unfit
 from touchcaps.rules import Rule
 
 ONE, OTHER = Rule.of("touch a; cap 3"), Rule.of("cap 3; touch a")
 BOTH = Rule.of("cap 5; touch b; forget c; cap 4; touch a")
 FORM = (("b", "a"), ("c",), (((), 4), (("a", "b", "c"), 2)))
+LOGS = ((("x", "y"), ("x",)), (("a", "x"), ("x",)))
+TOLD = tuple(BOTH(row) for row in tells.telling_rows(("a", "b", "c"), 5))
+PRICES = {"touch": 2, "forget": 1, "cap": 5}
+TWO = (("a", "b"), ("b", "c"))
 CALLS = [
     (forms.constant, (ONE,)), (forms.constant, (Rule.of("touch a; touch b; cap 2"),)), (forms.front, (BOTH,)),
     (forms.gone, (BOTH,)), (forms.bounds, (BOTH,)), (forms.follows, ((("a",), 3), ((), 3))),
@@ -29,23 +33,72 @@ CALLS = [
     (numbers.how_many, (7,)), (numbers.how_many_to, (3, 4)), (numbers.nth, (("a", "b", "c"), 3, 77)),
     (numbers.number_of, (BOTH,)), (numbers.many_between, (ONE, OTHER)), (numbers.nth_between, (ONE, OTHER, 1)),
     (numbers.rank_between, (ONE, OTHER, ONE)),
+    (known.strange_place, (BOTH, ("a", "x", "c"))), (known.can_come, (BOTH, ("a", "x"))),
+    (known.least_ahead, (BOTH, ("a", "x"))), (known.is_ahead, (OTHER, ("a", "x"), ("x", "a"))),
+    (known.lost, (OTHER, ("a", "x", "y"))), (known.lost, (OTHER, ("a", "x", "y"), 4)), (known.lengths, (OTHER, ("a", "x"))),
+    (known.was_there, (OTHER, ("a", "x", "y"), "a")), (known.was_there, (OTHER, ("a", "x", "y"), "a", 3)),
+    (known.sight, (BOTH,)), (known.places, (OTHER, ("a", "x", "y"), "y")), (known.sight_rows, (BOTH,)),
+    (known.how_many_ahead, (OTHER, ("a", "x"))), (known.nth_ahead, (OTHER, ("a", "x"), 2)),
+    (known.rank_ahead, (OTHER, ("a", "x"), ("x", "a"))),
+    (costs.needless, (ONE >> ONE,)), (costs.touched_once, (BOTH,)), (costs.further, (ONE, ONE >> BOTH)),
+    (costs.fewest, (BOTH >> ONE,)), (costs.price_of, (BOTH, PRICES)), (costs.cheapest, (BOTH >> ONE, PRICES)),
+    (tells.fits, (BOTH, ((("x", "c"), ("a", "b", "x")),))), (tells.all_fitting, (("a",), 1, LOGS)),
+    (tells.sure, (("a",), 1, LOGS, ("a", "z", "y"))), (tells.question, (("a", "b"), 1, LOGS)),
+    (tells.telling_rows, (("a", "b"), 2)), (tells.read_off, (("a", "b", "c"), 5, TOLD)),
+    (tells.in_order, (BOTH, ("b", "c", "a"))), (devices.used, (("c", "b", "c", "a"),)), (devices.all_used, (TWO,)),
+    (devices.is_order, (TWO, (0, 1, 1, 0))), (devices.joined_by, (TWO, ("x", "a"), (1, 0, 0, 1))),
+    (devices.joined_by, (TWO, ("x", "a"), (1, 0, 0, 1), 2)), (devices.how_many_joined, (TWO, ("x",))),
+    (devices.how_many_joined, (TWO, ("x",), 1)), (devices.is_joined, (TWO, (), ("b", "c", "a"))),
+    (devices.is_joined, (TWO, (), ("b", "c"), 2)), (devices.nth_joined, (TWO, ("x",), 1)),
+    (devices.nth_joined, (TWO, ("x",), 1, 2)), (devices.rank_joined, (TWO, ("x",), ("b", "a", "c", "x"))),
+    (devices.rank_joined, (TWO, ("x",), ("b", "a"), 2)), (devices.order_to, (TWO, ("x",), ("b", "a", "c", "x"))),
+    (devices.order_to, (TWO, ("x",), ("b", "a"), 2)), (devices.surely_ahead, (TWO, "b", "c")), (devices.sure_pairs, (TWO,)),
+    (devices.place_range, (TWO, "c")), (devices.stands, (TWO, ("x", "y"), "y")), (devices.stands, (TWO, ("x", "y"), "a", 1)),
+    (devices.cap_for, (TWO, ("x", "y"), "y")),
 ]
 REFUSED = [
     (forms.tight, (((("a",), 2), (("b",), 1)),), Apart), (order.least_around, ((ONE, BOTH),), OtherNames),
     (order.greatest_within, ((ONE, BOTH),), OtherNames), (numbers.nth, (("a", "b"), 1, 25), NoNumber),
     (numbers.many_between, (ONE, BOTH), OtherNames), (numbers.nth_between, (ONE, OTHER, 2), NoNumber),
     (numbers.rank_between, (ONE, OTHER, Rule.of("cap 9; touch a")), NotBetween),
+    (known.nth_ahead, (OTHER, ("a", "x", "y"), 0), Endless), (known.nth_ahead, (OTHER, ("a", "x"), 3), NoNumber),
+    (known.rank_ahead, (OTHER, ("a", "x"), ("y",)), NotAhead), (known.rank_ahead, (ONE, ("a", "x", "y"), ()), Endless),
+    (tells.sure, (("a",), 1, ((("x",), ("y",)),), ()), Unfit), (tells.question, (("a",), 1, ((("x",), ("y",)),)), Unfit),
+    (tells.read_off, (("a",), 1, ((), ("x",))), Unfit), (devices.nth_joined, (TWO, (), 3), NoNumber),
+    (devices.nth_joined, (TWO, (), 2, 1), NoNumber), (devices.rank_joined, (TWO, ("x",), ("c", "a", "b", "x")), NotJoined),
+    (devices.rank_joined, (TWO, ("x",), ("c",), 1), NotJoined), (devices.surely_ahead, (TWO, "b", "x"), NotUsed),
+    (devices.place_range, (TWO, "x"), NotUsed),
 ]
+LATER = (forms, order, behind, numbers, known, costs, tells, devices)
 
 
 def with_lists(value):
     return [with_lists(part) for part in value] if isinstance(value, tuple) else value
 
 
+def listed(function, values):
+    """The values with lists for tuples, but for an argument that is called thing."""
+    names = arguments(function)
+    return tuple(value if name == "thing" else with_lists(value) for name, value in zip(names, values))
+
+
+def call(function, values):
+    """The call with all values by position but those that are passed by name alone."""
+    names = arguments(function)
+    plain = [value for name, value in zip(names, values) if name[0] != "*"]
+    return function(*plain, **{name[1:]: value for name, value in zip(names, values) if name[0] == "*"})
+
+
+def call_by_names(function, values):
+    return function(**{name.strip("*"): value for name, value in zip(arguments(function), values)})
+
+
 def shown(value):
     """The value with texts for Rules; lists and tuples stay what they are."""
     if isinstance(value, Rule):
         return ("Rule", value.text)
+    if isinstance(value, dict):
+        return ("dict", tuple(value.items()))
     if isinstance(value, (list, tuple)):
         return type(value)(shown(part) for part in value)
     return (type(value).__name__, value)
@@ -56,52 +109,52 @@ class Calls(unittest.TestCase):
     def test_lists_for_tuples_and_names_for_places(self):
         for function, values in CALLS:
             with self.subTest(function.__name__):
-                expected = shown(function(*values))
-                self.assertEqual(shown(function(*values)), expected)
-                self.assertEqual(shown(function(*with_lists(values))), expected)
-                names = list(inspect.signature(function).parameters)
-                self.assertEqual(shown(function(**dict(zip(names, values)))), expected)
-                self.assertEqual(shown(function(**dict(zip(names, with_lists(values))))), expected)
+                expected = shown(call(function, values))
+                self.assertEqual(shown(call(function, values)), expected)
+                self.assertEqual(shown(call(function, listed(function, values))), expected)
+                self.assertEqual(shown(call_by_names(function, values)), expected)
+                self.assertEqual(shown(call_by_names(function, listed(function, values))), expected)
 
     def test_all_functions_are_called(self):
-        listed = {name for module in (forms, order, behind, numbers) for name in ARGUMENTS[module]}
-        self.assertEqual(listed - {function.__name__ for function, _ in CALLS}, {"is_form"})
+        names = {name for module in LATER for name in ARGUMENTS[module]}
+        self.assertEqual(names - {function.__name__ for function, _ in CALLS}, {"is_form", "Hunt"})
         self.assertIs(forms.is_form(thing=FORM), True)
         self.assertIs(forms.is_form(with_lists(FORM)), False)
 
     def test_nothing_that_is_handed_in_changes(self):
         for function, values in CALLS:
-            given = with_lists(values)
+            given = listed(function, values)
             texts = shown(deepcopy(given))
-            function(*given)
+            call(function, given)
             self.assertEqual(shown(given), texts, function.__name__)
 
     def test_lists_belong_to_the_caller(self):
         for function, values in CALLS:
-            found = function(*values)
+            found = call(function, values)
             if isinstance(found, list):
                 expected = shown(found)
                 found.clear()
-                self.assertEqual(shown(function(*values)), expected)
-                self.assertIsNot(function(*values), function(*values))
+                self.assertEqual(shown(call(function, values)), expected)
+                self.assertIsNot(call(function, values), call(function, values))
 
     def test_lists_and_tuples(self):
-        lists = {function.__name__ for function, values in CALLS if isinstance(function(*values), list)}
-        self.assertEqual(lists, {"above", "below", "climb", "least_around", "greatest_within"})
+        lists = {function.__name__ for function, values in CALLS if isinstance(call(function, values), list)}
+        self.assertEqual(lists, {"above", "below", "climb", "least_around", "greatest_within", "all_fitting"})
         self.assertEqual(order.above(Rule()), [])
+        self.assertEqual(tells.all_fitting(("a",), 1, ((("x",), ("y",)),)), [])
         for function, values in CALLS:
-            self.assertNotIn("[", repr(shown(function(*values))).removeprefix("["), function.__name__)
+            for given in (values, listed(function, values)):
+                self.assertNotIn("[", repr(shown(call(function, given))).removeprefix("["), function.__name__)
 
     def test_errors_too(self):
         for function, values, refused in REFUSED:
             kept = []
-            for given in (values, values, with_lists(values)):
-                with self.assertRaises(refused) as caught:
-                    function(*given)
-                kept.append(vars(caught.exception))
-            with self.assertRaises(refused) as caught:
-                function(**dict(zip(inspect.signature(function).parameters, values)))
-            self.assertEqual(kept, [vars(caught.exception)] * 3)
+            for given in (values, values, listed(function, values)):
+                for way in (call, call_by_names):
+                    with self.assertRaises(refused) as caught:
+                        way(function, given)
+                    kept.append(vars(caught.exception))
+            self.assertEqual(kept, [kept[0]] * 6)
             self.assertNotIn("[", repr(kept)[1:])
 
     def test_what_is_returned_may_be_handed_in_again(self):
@@ -113,3 +166,7 @@ class Calls(unittest.TestCase):
         x, y = behind.meeting(ONE, OTHER)
         self.assertIs(behind.rest_of(ONE, ONE >> x) is None, False)
         self.assertIs(OTHER >> y == ONE >> x, True)
+        self.assertEqual(known.rank_ahead(OTHER, ("a", "x"), known.nth_ahead(OTHER, ("a", "x"), 1)), 1)
+        self.assertEqual([rule.text for rule in tells.all_fitting(("a",), 1, [*LOGS])], ["forget a; cap 1"])
+        row = devices.nth_joined(TWO, devices.nth_joined(TWO, (), 0), 2)
+        self.assertEqual(devices.joined_by(TWO, (), devices.order_to(TWO, (), row)), row)

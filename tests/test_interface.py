@@ -3,7 +3,7 @@
 import inspect
 import unittest
 
-from touchcaps import behind, forms, numbers, order, rows, rules, steps
+from touchcaps import behind, costs, devices, forms, known, numbers, order, rows, rules, steps, tells
 
 ARGUMENTS = {
     rows: {
@@ -33,6 +33,30 @@ ARGUMENTS = {
         "nth": ["names", "last", "number"], "number_of": ["rule"], "many_between": ["p", "q"],
         "nth_between": ["p", "q", "number"], "rank_between": ["p", "q", "third"],
     },
+    known: {
+        "strange_place": ["rule", "row"], "can_come": ["rule", "row"], "least_ahead": ["rule", "row"],
+        "is_ahead": ["rule", "row", "thing"], "lost": ["rule", "row", "*length"], "lengths": ["rule", "row"],
+        "was_there": ["rule", "row", "name", "*length"], "sight": ["rule"], "places": ["rule", "row", "name"],
+        "sight_rows": ["rule"], "how_many_ahead": ["rule", "row"], "nth_ahead": ["rule", "row", "number"],
+        "rank_ahead": ["rule", "row", "ahead"],
+    },
+    costs: {
+        "needless": ["rule"], "touched_once": ["rule"], "further": ["rule", "other"], "fewest": ["rule"],
+        "price_of": ["rule", "prices"], "cheapest": ["rule", "prices"],
+    },
+    tells: {
+        "fits": ["rule", "logs"], "all_fitting": ["names", "most", "logs"], "sure": ["names", "most", "logs", "row"],
+        "question": ["names", "most", "logs"], "telling_rows": ["names", "most"],
+        "read_off": ["names", "most", "told"], "in_order": ["rule", "order"], "Hunt": ["order", "most"],
+    },
+    devices: {
+        "used": ["names"], "all_used": ["devices"], "is_order": ["devices", "thing"],
+        "joined_by": ["devices", "row", "order", "*cap"], "how_many_joined": ["devices", "row", "*cap"],
+        "is_joined": ["devices", "row", "thing", "*cap"], "nth_joined": ["devices", "row", "number", "*cap"],
+        "rank_joined": ["devices", "row", "joined", "*cap"], "order_to": ["devices", "row", "joined", "*cap"],
+        "surely_ahead": ["devices", "one", "other"], "sure_pairs": ["devices"], "place_range": ["devices", "name"],
+        "stands": ["devices", "row", "name", "*cap"], "cap_for": ["devices", "row", "name"],
+    },
 }
 OWN = {
     steps.Step: ["__init__", "of", "kind", "what", "text", "__call__", "__eq__"],
@@ -40,18 +64,25 @@ OWN = {
         "__init__", "of", "steps", "text", "__len__", "__getitem__", "__iter__", "__call__", "__rshift__", "__mul__",
         "__eq__", "within",
     ],
+    tells.Hunt: ["__init__", "ask", "rule", "answers", "__len__", "tell"],
 }
+
+
+def arguments(own):
+    """The names of the arguments, with a star ahead of those that are passed by name alone."""
+    parameters = inspect.signature(own).parameters.values()
+    return ["*" * (one.kind is one.KEYWORD_ONLY) + one.name for one in parameters]
 
 
 class Interface(unittest.TestCase):
 
     def test_each_is_defined_in_its_file_with_its_arguments(self):
         for module, listed in ARGUMENTS.items():
-            for name, arguments in listed.items():
+            for name, expected in listed.items():
                 with self.subTest(name):
                     own = vars(module)[name]
                     self.assertEqual(own.__module__, module.__name__)
-                    self.assertEqual(list(inspect.signature(own).parameters), arguments)
+                    self.assertEqual(arguments(own), expected)
 
     def test_each_method_is_defined_in_its_class(self):
         for own, names in OWN.items():
@@ -64,6 +95,13 @@ class Interface(unittest.TestCase):
         self.assertEqual(list(inspect.signature(steps.Step.__call__).parameters), ["self", "row"])
         self.assertEqual(list(inspect.signature(rules.Rule.__call__).parameters), ["self", "row"])
         self.assertEqual(list(inspect.signature(rules.Rule.within).parameters), ["self", "other"])
+        self.assertEqual(list(inspect.signature(tells.Hunt.tell).parameters), ["self", "out"])
+
+    def test_length_and_cap_are_passed_by_name_alone_and_need_not_be(self):
+        for module in (known, devices):
+            for name in ARGUMENTS[module]:
+                for one in inspect.signature(vars(module)[name]).parameters.values():
+                    self.assertIs(one.default, None if one.name in ("length", "cap") else one.empty, name)
 
     def test_the_static_methods_are_static(self):
         self.assertIsInstance(vars(steps.Step)["of"], staticmethod)

@@ -44,6 +44,20 @@ def reach_of(chain, names):
     return min([number + lacking(own, names) for own, number in chain], default=None)
 
 
+def seen_of(chain, named, row):
+    """What a Rule with this CHAIN that names these NAMEs shows of the ROW behind its front."""
+    found = []
+    left = [number for _, number in chain]
+    for name in row:
+        left = [many if name in names else many - 1 for many, (names, _) in zip(left, chain)]
+        # What breaks a BOUND breaks it for all behind it, too.
+        if -1 in left:
+            break
+        if name not in named:
+            found.append(name)
+    return tuple(found)
+
+
 def height_of(chain, many):
     """The height of a Rule with this CHAIN that names so many NAMEs."""
     # The beginnings of an order that comes by all sets lie within these or have all that they have.

@@ -1,6 +1,6 @@
 """What a rule does to all ROWs, told as a FORM: its front, what is gone, and its bounds."""
 
-from touchcaps.chains import follows_from, lacking, tight_chain
+from touchcaps.chains import follows_from, lacking, seen_of, tight_chain
 from touchcaps.errors import Apart
 from touchcaps.rows import is_name, is_row
 from touchcaps.rules import Rule
@@ -102,13 +102,7 @@ def is_next(one, other):
 def by_form(form, row):
     """The ROW that a rule with this FORM makes of a ROW."""
     ahead, lost, found = form
-    kept = list(ahead)
-    counts = [0 for _ in found]
-    for name in row:
-        counts = [count if name in names else count + 1 for count, (names, _) in zip(counts, found)]
-        if name not in ahead and name not in lost and all([count <= own[1] for count, own in zip(counts, found)]):
-            kept.append(name)
-    return tuple(kept)
+    return (*ahead, *seen_of(found, (*ahead, *lost), row))
 
 
 def rule_of(form):

@@ -3,6 +3,7 @@
 from touchcaps.chains import chains_by_fall, chains_to, height_of, reach_of, shifted
 from touchcaps.errors import NoNumber, NotBetween
 from touchcaps.forms import form_of, rule_of
+from touchcaps.rows import all_rows
 from touchcaps.shapes import check_names, names_of
 
 
@@ -27,19 +28,9 @@ def how_many_to(number, most):
     return how_many_bounds(number) * (lists + 1)
 
 
-def fronts_of(names):
-    """All ROWs of these NAMEs, in Python's order."""
-    found = []
-    newest = [()]
-    while newest != []:
-        found.extend(newest)
-        newest = [(*row, name) for row in newest for name in names if name not in row]
-    return sorted(found)
-
-
 def nth(names, last, number):
     """The bounded Rule that names just these NAMEs, with this last number and this number."""
-    fronts, chains = fronts_of(names), chains_to(names, last)
+    fronts, chains = all_rows(names), chains_to(names, last)
     if number < 0 or number >= len(fronts) * len(chains):
         raise NoNumber(number)
     at, place = divmod(number, len(chains))
@@ -53,7 +44,7 @@ def number_of(rule):
     row, _, chain = form
     names = names_of(form)
     chains = chains_to(names, chain[-1][1])
-    return fronts_of(names).index(row) * len(chains) + chains.index(chain)
+    return all_rows(names).index(row) * len(chains) + chains.index(chain)
 
 
 def chains_between(low, high, named):

@@ -50,6 +50,16 @@ def capped(row, number):
     return tuple(row[:number])
 
 
+def all_rows(names):
+    """All ROWs of these NAMEs, in Python's order."""
+    found = []
+    newest = [()]
+    while newest != []:
+        found.extend(newest)
+        newest = [(*row, name) for row in newest for name in names if name not in row]
+    return sorted(found)
+
+
 def new_names(many, names):
     """So many different NAMEs that are none of these."""
     found = []
