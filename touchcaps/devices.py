@@ -166,15 +166,13 @@ def order_to(devices, row, joined, *, cap=None):
     numbers = []
     for name in joined:
         firsts = [number for number, own in enumerate(devices) if name in own[state[number]:state[number] + 1]]
-        if firsts == []:
-            break
-        # One of the first ones tells the NAME; it is told already for all others that come with it.
+        # The first of these tells the NAME: it is told already where it comes again.
         others = [number for number in range(len(devices)) if number not in firsts]
         behind = state_behind(devices, where, state, name)
         for number in [*firsts, *others]:
             numbers.extend([number] * (behind[number] - state[number]))
         state = behind
-    # Where no more of joined is to be told, any order does.
+    # Of what is left no more NAMEs of joined are told: so any order does.
     for number, own in enumerate(devices):
         numbers.extend([number] * (len(own) - state[number]))
     order = tuple(numbers[::-1])

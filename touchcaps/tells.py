@@ -185,10 +185,6 @@ class Hunt:
         self._last = len(row) - len(self._front)
         if self._last == 0:
             self._left = ()
-        if self._last > self._most:
-            # Without BOUNDs nothing more is to be known of the front.
-            self._named = list(self._front)
-            self._left = outside(self._order, self._front)
 
     def _asked(self):
         """The NAMEs of left that are asked about: the last one, all at once where nothing can hide another one."""
@@ -212,7 +208,8 @@ class Hunt:
 
     def _go_on(self):
         """Finds out what can be told without asking, and what is to be asked next."""
-        # If the reach did not fall with such a NAME there would be a BOUND with a number above most.
+        # If the reach did not fall with such a NAME there would be a BOUND with a number above most. (Where there is no
+        # BOUND it does not matter whether it falls.)
         while self._left != () and self._left[-1] in self._front and self._last + len(self._falls) > self._most:
             self._take(self._left[-1], True)
             self._left = self._left[:-1]
@@ -223,8 +220,7 @@ class Hunt:
             self._ask = (*self._asked(), *self._falls, *self._others[:self._last])
 
     def _form(self):
-        if self._last == 0:
-            return (self._front, (), CONSTANT_BOUNDS)
+        # The last number of what is constant is 0, and nothing is known to be named: so it comes out, too.
         named = [name for name in self._order if name in self._named]
         chain = () if self._last > self._most else chain_in_order(named, self._falls, self._last)
         return (self._front, tuple(sorted(outside(named, self._front))), chain)
