@@ -178,6 +178,64 @@ DEVICES = r'''
     raises NotUsed(name='x')
 '''
 
+LONGS = r'''
+    >>> files = Long(10, (("a", 4),))
+    >>> one, other = Rule.of("touch a; cap 3"), Rule.of("cap 3; touch a")
+    >>> files.after(one).text, files.after(other).text, files.lost(one), files.lost(other), files.text
+    ('3: a 0', '4: a 0', 7, 6, '10: a 4')
+    >>> [files.goes(one, place) for place in (0, 1, 2, 4)], [files.comes(one, place) for place in range(3)], files.comes(other, 3), Long(10, (("a", 1),)).after(other).text
+    ([1, 2, None, 0], [4, 0, 1], 2, '3: a 0')
+    >>> great = Long(10 ** 30, (("x", 10 ** 20), ("y", 3)))
+    >>> made = great.after(Rule.of("touch x; cap 1000; forget y; touch z"))
+    >>> made.size, made.places, great.goes(Rule.of("forget y; forget x"), 10 ** 30 - 1) == 10 ** 30 - 3, great.comes(Rule.of("touch z"), 0), great["x"] == 10 ** 20
+    (1000, (('x', 1), ('z', 0)), True, None, True)
+    >>> Long(5, (("a", 1), ("b", 1)))
+    raises BadPlace(name='b')
+    >>> files.goes(one, 10)
+    raises NoPlace(place=10)
+'''
+
+BOARD = r'''
+    >>> board = Board(("d", "e"))
+    >>> board.attempt((("use", "c"), ("use", "b"), ("use", "a"), ("use", "d")))
+    >>> board["menu"], board["start"] = Rule.of("cap 3"), Rule.of("forget a; cap 2")
+    >>> board.row, board.shown("menu"), board.shown("start"), board.common(), board.unseen(), board.above("start"), board.effect("menu", Rule.of("cap 2"))
+    (('d', 'a', 'b', 'c', 'e'), ('d', 'a', 'b'), ('d', 'b'), ('b', 'd'), ('c', 'e'), ('menu',), 'around')
+    >>> board.cut(4), board.use("x"), board.row, board.limit, board.undo(), board.row, board.undo(), board.row, board.limit
+    (None, None, ('x', 'd', 'a', 'b'), 4, True, ('d', 'a', 'b', 'c'), True, ('d', 'a', 'b', 'c', 'e'), None)
+    >>> board.frame("start", None, Rule.of("cap 3"))
+    >>> board["start"] = Rule.of("cap 4")
+    raises Outside(name='start')
+    >>> board += ("start", Step.of("cap 1"))
+    >>> board.shown("start"), board.frames, board.undo(), board["start"].text
+    (('d',), (('start', None, 'cap 3'),), True, 'forget a; cap 2')
+    >>> board.attempt((("forget", "e"), ("forget", "e")))
+    raises Stopped(number=1, raised='NoName', value='e')
+    >>> board.row, board.doubled(), len(board)
+    (('d', 'a', 'b', 'c', 'e'), (), 2)
+'''
+
+TEXTS = r'''
+    >>> program_of("(touch a; cap 3) x 5").text, program_of("(cap 3; touch a) x 2").text, program_of("(touch a) x 0").text, program_of("((touch b) x 1; cap 9) x 1000000000000").text
+    ('forget a; cap 2; touch a', 'forget a; cap 2; touch a', '-', 'forget b; cap 8; touch b')
+    >>> program_of("(touch a; cap 3)")
+    raises BadText()
+    >>> made = board_in("d a b\nlimit 4\nmenu: cap 3\nmenu from cap 1 .. *\nend")
+    >>> made.row, made.limit, made.shown("menu"), made.frames, made.undo(), board_text(made)
+    (('d', 'a', 'b'), 4, ('d', 'a', 'b'), (('menu', 'cap 1', None),), False, 'd a b\nlimit 4\nmenu: cap 3\nmenu from cap 1 .. *\nend')
+    >>> board_in("d a b\nlimit 2\nend")
+    raises BadLine(number=1)
+'''
+
+DESK = r'''
+    >>> answers("use c\nuse b\nuse a\nuse c\nrow\nview menu cap 2\nshown menu\ncut 2\nrow\nforget b\nview late touch z; cap 2\nunseen\nabove menu\neffect menu touch c; cap 2\nundo\nundo\nrow\nlift menu")
+    ['done', 'done', 'done', 'done', 'c a b', 'done', 'c a', 'done', 'c a', 'refused NoName', 'done', '-', '-', 'neither', 'yes', 'yes', 'c a b', 'refused NoFrame']
+    >>> answers(""), answers("row\nundo\ncommon\nleave a")
+    ([], ['-', 'no', '-', 'refused NoView'])
+    >>> answers("use a\nuse")
+    raises BadLine(number=1)
+'''
+
 
 def parts_of(text):
     """Each line that is run, with the line that stands below it or None."""
@@ -194,10 +252,18 @@ def error_text(error):
     return f"{type(error).__name__}({told})"
 
 
-def answer(line, names):
-    """How the document tells what comes of this line."""
+def is_expression(line):
     try:
-        return repr(eval(line, names))
+        compile(line, "line", "eval")
+    except SyntaxError:
+        return False
+    return True
+
+
+def answer(line, names):
+    """How the document tells what comes of this line; of a statement nothing comes but an error."""
+    try:
+        return repr(eval(line, names)) if is_expression(line) else repr(exec(line, names))
     except (LookupError, ValueError) as error:
         return f"raises {error_text(error)}"
 

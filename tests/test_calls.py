@@ -1,12 +1,15 @@
-"""Point 2 for what points 6 to 12 list: lists for tuples, arguments by names, answers that belong to the caller."""
+"""Point 2 for what points 6 to 16 list: lists for tuples, arguments by names, answers that belong to the caller."""
 
 import inspect
 import unittest
 from copy import deepcopy
 
 from tests.test_interface import ARGUMENTS, arguments
-from touchcaps import behind, costs, devices, forms, known, numbers, order, tells
-from touchcaps.errors import Apart, Endless, NoNumber, NotAhead, NotBetween, NotJoined, NotUsed, OtherNames, Unfit
+from touchcaps import behind, costs, desk, devices, forms, known, numbers, order, tells, texts
+from touchcaps.board import Board
+from touchcaps.errors import (
+    Apart, BadLine, BadText, Endless, NoNumber, NotAhead, NotBetween, NotJoined, NotUsed, OtherNames, Unfit,
+)
 from touchcaps.rules import Rule
 
 ONE, OTHER = Rule.of("touch a; cap 3"), Rule.of("cap 3; touch a")
@@ -16,6 +19,7 @@ LOGS = ((("x", "y"), ("x",)), (("a", "x"), ("x",)))
 TOLD = tuple(BOTH(row) for row in tells.telling_rows(("a", "b", "c"), 5))
 PRICES = {"touch": 2, "forget": 1, "cap": 5}
 TWO = (("a", "b"), ("b", "c"))
+MENU = "d a b\nlimit 4\nmenu: cap 3; cap 4\nmenu from cap 1 .. *\nend"
 CALLS = [
     (forms.constant, (ONE,)), (forms.constant, (Rule.of("touch a; touch b; cap 2"),)), (forms.front, (BOTH,)),
     (forms.gone, (BOTH,)), (forms.bounds, (BOTH,)), (forms.follows, ((("a",), 3), ((), 3))),
@@ -54,7 +58,8 @@ CALLS = [
     (devices.rank_joined, (TWO, ("x",), ("b", "a"), 2)), (devices.order_to, (TWO, ("x",), ("b", "a", "c", "x"))),
     (devices.order_to, (TWO, ("x",), ("b", "a"), 2)), (devices.surely_ahead, (TWO, "b", "c")), (devices.sure_pairs, (TWO,)),
     (devices.place_range, (TWO, "c")), (devices.stands, (TWO, ("x", "y"), "y")), (devices.stands, (TWO, ("x", "y"), "a", 1)),
-    (devices.cap_for, (TWO, ("x", "y"), "y")),
+    (devices.cap_for, (TWO, ("x", "y"), "y")), (texts.program_of, ("(cap 3; touch a) x 2",)),
+    (texts.board_text, (texts.board_in(MENU),)), (texts.board_in, (MENU,)), (desk.answers, ("use a\nrow\nforget b\nundo",)),
 ]
 REFUSED = [
     (forms.tight, (((("a",), 2), (("b",), 1)),), Apart), (order.least_around, ((ONE, BOTH),), OtherNames),
@@ -67,9 +72,10 @@ REFUSED = [
     (tells.read_off, (("a",), 1, ((), ("x",))), Unfit), (devices.nth_joined, (TWO, (), 3), NoNumber),
     (devices.nth_joined, (TWO, (), 2, 1), NoNumber), (devices.rank_joined, (TWO, ("x",), ("c", "a", "b", "x")), NotJoined),
     (devices.rank_joined, (TWO, ("x",), ("c",), 1), NotJoined), (devices.surely_ahead, (TWO, "b", "x"), NotUsed),
-    (devices.place_range, (TWO, "x"), NotUsed),
+    (devices.place_range, (TWO, "x"), NotUsed), (texts.program_of, ("(cap 3)",), BadText),
+    (texts.board_in, ("-\nlimit 0\nend",), BadLine), (desk.answers, ("row\n",), BadLine),
 ]
-LATER = (forms, order, behind, numbers, known, costs, tells, devices)
+LATER = (forms, order, behind, numbers, known, costs, tells, devices, texts, desk)
 
 
 def with_lists(value):
@@ -99,6 +105,8 @@ def shown(value):
         return ("Rule", value.text)
     if isinstance(value, dict):
         return ("dict", tuple(value.items()))
+    if isinstance(value, Board):
+        return ("Board", texts.board_text(value), len(value.twin().frames), value.twin().undo())
     if isinstance(value, (list, tuple)):
         return type(value)(shown(part) for part in value)
     return (type(value).__name__, value)
@@ -139,7 +147,7 @@ class Calls(unittest.TestCase):
 
     def test_lists_and_tuples(self):
         lists = {function.__name__ for function, values in CALLS if isinstance(call(function, values), list)}
-        self.assertEqual(lists, {"above", "below", "climb", "least_around", "greatest_within", "all_fitting"})
+        self.assertEqual(lists, {"above", "below", "climb", "least_around", "greatest_within", "all_fitting", "answers"})
         self.assertEqual(order.above(Rule()), [])
         self.assertEqual(tells.all_fitting(("a",), 1, ((("x",), ("y",)),)), [])
         for function, values in CALLS:

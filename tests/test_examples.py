@@ -1,19 +1,21 @@
-"""The examples of points 4 to 12."""
+"""The examples of points 4 to 16."""
 
 import unittest
 
-from tests.examples import BEHIND, COSTS, DEVICES, FORMS, KNOWN, NUMBERS, ORDER, ROWS, RULES, parts_of, unlike
-from touchcaps import behind, costs, devices, forms, known, numbers, order, tells
+from tests.examples import (
+    BEHIND, BOARD, COSTS, DESK, DEVICES, FORMS, KNOWN, LONGS, NUMBERS, ORDER, ROWS, RULES, TEXTS, parts_of, unlike,
+)
+from touchcaps import behind, board, costs, desk, devices, forms, known, longs, numbers, order, tells, texts
 from touchcaps.rows import capped, forgotten, is_name, is_row, outside, row_of, row_text, touched
 from touchcaps.rules import Rule
 from touchcaps.steps import Step
 
 ROW_NAMES = (capped, forgotten, is_name, is_row, outside, row_of, row_text, touched)
-LATER = (forms, order, behind, numbers, known, costs, tells, devices)
+LATER = (forms, order, behind, numbers, known, costs, tells, devices, longs, board, texts, desk)
 
 
 def later_names():
-    """What the examples of points 6 to 12 need; they share what earlier ones have made."""
+    """What the examples of points 6 to 16 need; they share what earlier ones have made."""
     own = {name: value for module in LATER for name, value in vars(module).items() if not name.startswith("_")}
     return {**own, "Rule": Rule, "Step": Step}
 
@@ -28,12 +30,12 @@ class Examples(unittest.TestCase):
 
     def test_all_others(self):
         names = later_names()
-        for text in (FORMS, ORDER, BEHIND, NUMBERS, KNOWN, COSTS, DEVICES):
+        for text in (FORMS, ORDER, BEHIND, NUMBERS, KNOWN, COSTS, DEVICES, LONGS, BOARD, TEXTS, DESK):
             self.assertEqual(unlike(text, names), [])
 
     def test_all_are_tried(self):
-        texts = (ROWS, RULES, FORMS, ORDER, BEHIND, NUMBERS, KNOWN, COSTS, DEVICES)
-        self.assertEqual([len(parts_of(text)) for text in texts], [6, 9, 10, 10, 9, 7, 9, 19, 7])
+        every = (ROWS, RULES, FORMS, ORDER, BEHIND, NUMBERS, KNOWN, COSTS, DEVICES, LONGS, BOARD, TEXTS, DESK)
+        self.assertEqual([len(parts_of(text)) for text in every], [6, 9, 10, 10, 9, 7, 9, 19, 7, 9, 11, 5, 3])
 
     def test_a_wrong_one_is_found(self):
         wrong = ROWS.replace("('c', 'd'))", "('d', 'c'))")

@@ -3,7 +3,9 @@
 import inspect
 import unittest
 
-from touchcaps import behind, costs, devices, forms, known, numbers, order, rows, rules, steps, tells
+from touchcaps import (
+    behind, board, costs, desk, devices, forms, known, longs, numbers, order, rows, rules, steps, tells, texts,
+)
 
 ARGUMENTS = {
     rows: {
@@ -57,6 +59,10 @@ ARGUMENTS = {
         "surely_ahead": ["devices", "one", "other"], "sure_pairs": ["devices"], "place_range": ["devices", "name"],
         "stands": ["devices", "row", "name", "*cap"], "cap_for": ["devices", "row", "name"],
     },
+    longs: {"Long": ["size", "places"]},
+    board: {"Board": ["row"]},
+    texts: {"program_of": ["text"], "board_text": ["board"], "board_in": ["text"]},
+    desk: {"answers": ["text"]},
 }
 OWN = {
     steps.Step: ["__init__", "of", "kind", "what", "text", "__call__", "__eq__"],
@@ -65,6 +71,34 @@ OWN = {
         "__eq__", "within",
     ],
     tells.Hunt: ["__init__", "ask", "rule", "answers", "__len__", "tell"],
+    longs.Long: [
+        "__init__", "of", "size", "places", "text", "__contains__", "__getitem__", "__iter__", "__eq__", "after", "lost",
+        "goes", "comes",
+    ],
+    board.Board: [
+        "__init__", "row", "limit", "names", "__len__", "__contains__", "__getitem__", "__iter__", "frames", "shown",
+        "common", "unseen", "above", "doubled", "effect", "__eq__", "use", "forget", "do", "cut", "__setitem__", "leave",
+        "__iadd__", "frame", "lift", "attempt", "undo", "twin",
+    ],
+}
+METHODS = {
+    steps.Step: {"of": ["text"], "__call__": ["self", "row"]},
+    rules.Rule: {"of": ["text"], "__call__": ["self", "row"], "within": ["self", "other"]},
+    tells.Hunt: {"tell": ["self", "out"]},
+    longs.Long: {
+        "of": ["text"], "after": ["self", "rule"], "lost": ["self", "rule"], "goes": ["self", "rule", "place"],
+        "comes": ["self", "rule", "place"],
+    },
+    board.Board: {
+        "shown": ["self", "name"], "common": ["self"], "unseen": ["self"], "above": ["self", "name"], "doubled": ["self"],
+        "effect": ["self", "name", "rule"], "use": ["self", "name"], "forget": ["self", "name"], "do": ["self", "rule"],
+        "cut": ["self", "number"], "leave": ["self", "name"], "frame": ["self", "name", "low", "high"],
+        "lift": ["self", "name"], "attempt": ["self", "deeds"], "undo": ["self"], "twin": ["self"],
+    },
+}
+PROPERTIES = {
+    steps.Step: ["kind", "what", "text"], rules.Rule: ["steps", "text"], tells.Hunt: ["ask", "rule", "answers"],
+    longs.Long: ["size", "places", "text"], board.Board: ["row", "limit", "names", "frames"],
 }
 
 
@@ -90,12 +124,24 @@ class Interface(unittest.TestCase):
             self.assertEqual([name for name in names if name not in vars(own)], [])
 
     def test_methods_have_their_arguments(self):
-        self.assertEqual(list(inspect.signature(steps.Step.of).parameters), ["text"])
-        self.assertEqual(list(inspect.signature(rules.Rule.of).parameters), ["text"])
-        self.assertEqual(list(inspect.signature(steps.Step.__call__).parameters), ["self", "row"])
-        self.assertEqual(list(inspect.signature(rules.Rule.__call__).parameters), ["self", "row"])
-        self.assertEqual(list(inspect.signature(rules.Rule.within).parameters), ["self", "other"])
-        self.assertEqual(list(inspect.signature(tells.Hunt.tell).parameters), ["self", "out"])
+        for own, methods in METHODS.items():
+            for name, expected in methods.items():
+                method = getattr(own, name)
+                self.assertEqual(arguments(method), expected)
+                defaults = [one.default for one in inspect.signature(method).parameters.values()]
+                self.assertEqual(defaults, [inspect.Parameter.empty] * len(expected))
+
+    def test_properties_have_no_setters(self):
+        for own, names in PROPERTIES.items():
+            for name in names:
+                self.assertIsInstance(vars(own)[name], property)
+                self.assertIsNone(vars(own)[name].fset)
+
+    def test_defaults(self):
+        self.assertEqual((longs.Long().text, board.Board().row, rules.Rule().text), ("0", (), "-"))
+        for own in (steps.Step, tells.Hunt):
+            with self.assertRaises(TypeError):
+                own()
 
     def test_length_and_cap_are_passed_by_name_alone_and_need_not_be(self):
         for module in (known, devices):
@@ -106,3 +152,4 @@ class Interface(unittest.TestCase):
     def test_the_static_methods_are_static(self):
         self.assertIsInstance(vars(steps.Step)["of"], staticmethod)
         self.assertIsInstance(vars(rules.Rule)["of"], staticmethod)
+        self.assertIsInstance(vars(longs.Long)["of"], staticmethod)
