@@ -57,9 +57,9 @@ def request_about(word, name, rest):
         return (word, name, Step.of(rest))
     if word == "effect":
         return (word, name, Rule.of(rest))
-    low, dots, high = rest.removeprefix("from ").partition(" .. ")
-    if word != "frame" or not rest.startswith("from ") or dots == "":
+    if word != "frame" or not rest.startswith("from "):
         raise BadText()
+    low, _, high = rest.removeprefix("from ").partition(" .. ")
     return (word, name, end_in(low), end_in(high))
 
 

@@ -106,17 +106,9 @@ def take_line(board, line, place):
     if colon != "":
         board[name] = Rule.of(rest)
     else:
-        low, high = ends_in(rest)
-        board.frame(name, low, high)
+        low, _, high = rest.partition(" .. ")
+        board.frame(name, end_in(low), end_in(high))
     return own
-
-
-def ends_in(text):
-    """The two ends of a frame; raises BadText()."""
-    low, dots, high = text.partition(" .. ")
-    if dots == "":
-        raise BadText()
-    return (end_in(low), end_in(high))
 
 
 def end_in(text):
