@@ -4,7 +4,7 @@ import random
 import unittest
 from itertools import product
 
-from tests.moments import at_once
+from tests.moments import at_once, within_seconds
 from tests.outside import Seen, is_plain, made, rows_up_to_strangers
 from tests.small import bound_lists, forms_naming, fronts_within, lists_below, plain_text, reach, small_texts
 from touchcaps.errors import NoNumber, NotBetween, OtherNames
@@ -129,6 +129,26 @@ class Numbered(unittest.TestCase):
             self.assertEqual((*sorted((*front(rule), *gone(rule))),), names)
             self.assertEqual(bounds(rule)[-1][1], GREAT)
             self.assertTrue(is_plain(rule.text))
+
+    def test_six_names_many_times(self):
+        # A generous bound: less than a tenth of it is needed, and with lists of all rules far more.
+        rule = Rule.of("forget f; cap 4; forget a; forget b; forget c; forget d; forget e; cap 3; touch b")
+        numbers = [12000 * turn for turn in range(300)]
+        rules = within_seconds(0.75, lambda: [nth(NAMES, 3, number) for number in numbers])
+        self.assertEqual([number_of(own) for own in rules], numbers)
+        found = within_seconds(0.75, lambda: [number_of(rule) for _ in range(300)])
+        self.assertEqual(found, found[:1] * 300)
+        self.assertIs(nth(NAMES, 3, found[0]) == rule, True)
+
+    def test_four_and_five_names(self):
+        for many, step in [(4, 7), (5, 997)]:
+            names, every = NAMES[:many], how_many(many)
+            rules = [nth(names, 3, number) for number in range(0, every, step)]
+            keys = [(front(rule), bounds(rule)) for rule in rules]
+            self.assertEqual(keys, sorted(keys))
+            self.assertEqual([number_of(rule) for rule in rules], list(range(0, every, step)))
+        found = sorted(bound_lists(NAMES[:4], 2))
+        self.assertEqual([bounds(nth(NAMES[:4], 2, number)) for number in range(len(found))], found)
 
     def test_rules_that_are_not_plain(self):
         self.assertEqual(number_of(Rule.of("touch a; cap 3; touch a")), number_of(Rule.of("forget a; cap 2; touch a")))

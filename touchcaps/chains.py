@@ -101,14 +101,23 @@ def chains_by_fall(many):
 
     Their sets are sets of so many told NAMEs. Numbers fall by less than there are NAMEs: so none is left out.
     """
-    ending = []
-    for size in range(many + 1):
-        ending.append(counts_ending(size, ending))
+    ending = falls_to(many)
     return [sum([comb(many, last) * ending[last][fall] for last in range(fall, many + 1)]) for fall in range(many + 1)]
 
 
+def falls_to(many):
+    """For each size up to this one: how many CHAINs whose last set is a told one of so many NAMEs fall by each number.
+
+    Just as many go on behind a set that so many NAMEs lack, and fall by this number till the last one.
+    """
+    ending = []
+    for size in range(many + 1):
+        ending.append(counts_ending(size, ending))
+    return ending
+
+
 def counts_ending(size, ending):
-    """The same for those whose last set is a told one of so many NAMEs; ending has it for each lesser size."""
+    """The same for one size; ending has it for each lesser size."""
     counts = [1, *[0] * size]
     for fewer in range(size - 1):
         for total, shorter in enumerate(ending[fewer]):
