@@ -1,8 +1,9 @@
 """The order of Rules: which ones never show more than others, and which ones are next to others."""
 
+from touchcaps.between import greatest_within_chains, least_around_chains
 from touchcaps.chains import chain_within, height_of, reach_of
 from touchcaps.forms import form_of, plain, rule_of
-from touchcaps.neighbours import chains_above, chains_below, greatest_within_chains, least_around_chains
+from touchcaps.neighbours import chains_above, chains_below
 from touchcaps.rows import new_names
 from touchcaps.shapes import CONSTANT_BOUNDS, check_names, is_bounded, names_of, shows_no_more
 

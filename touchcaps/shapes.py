@@ -24,19 +24,13 @@ def with_name(names, name):
     return tuple(sorted([*names, name]))
 
 
-def names_in(steps):
-    """The set of the NAMEs that the Steps touch or forget."""
+def told_by(steps):
+    """What becomes of the ROW (), the set of the NAMEs that the Steps name, and the BOUND of each cap.
+
+    A number below 1 is among them exactly if the Steps are constant.
+    """
     names = ()
-    for step in steps:
-        if step.kind != "cap":
-            names = with_name(names, step.what)
-    return names
-
-
-def cap_bounds(steps):
-    """The BOUND of each cap, one behind another; a number below 1 is among them exactly if the Steps are constant."""
     found = []
-    names = ()
     # Of the ROW () the touched NAMEs alone are there. A cap takes one of them away only if its number is below 1.
     row = ()
     for step in steps:
@@ -45,19 +39,17 @@ def cap_bounds(steps):
         else:
             names = with_name(names, step.what)
         row = row_behind_step(step.kind, step.what, row)
-    return found
+    return (row, names, found)
 
 
 def shape_of(steps):
     """The FORM of the Steps."""
     # No cap takes away a NAME of the front: so it is what becomes of (), and so is the ROW of constant Steps.
-    front = row_behind(steps, ())
-    found = cap_bounds(steps)
+    front, names, found = told_by(steps)
     if any([bound[1] < 1 for bound in found]):
         return (front, (), CONSTANT_BOUNDS)
-    gone = tuple([name for name in names_in(steps) if name not in front])
     # Later caps know more NAMEs: so those with fewer names stand first already.
-    return (front, gone, tight_chain(found))
+    return (front, tuple([name for name in names if name not in front]), tight_chain(found))
 
 
 def constant_steps(row):
