@@ -118,10 +118,10 @@ class Desk(unittest.TestCase):
         names = [chr(97 + at // 26) + chr(97 + at % 26) for at in range(400)]
         long = "; ".join(f"touch {name}" for name in names[:398])
         self.assertLess(len(long), 4000)
-        lines = [f"do {long}", f"view a {long}", f"view b {long}; cap 9", *[f"effect a {long}"] * 20, *["above a"] * 10, *["shown b"] * 27]
+        lines = [f"do {long}", f"view a {long}", f"view b {long}; cap 9", *[f"effect a {long}"] * 10, *["above a"] * 5, *["shown b"] * 42]
         self.assertEqual(len(lines), 60)
         found = at_once(answers, "\n".join(lines))
-        self.assertEqual((found[3], found[30], len(found[-1].split(" "))), ("alike", "-", 9))
+        self.assertEqual((found[3], found[15], len(found[-1].split(" "))), ("alike", "-", 9))
         deep = "; ".join([f"touch {names[at]}; cap {GREAT - at}" for at in range(30)])
         lines = [f"view {name} {deep}" for name in names[:8]] + [f"effect {name} {deep}" for name in names[:8]] * 6 + ["doubled"] * 4
         found = at_once(answers, "\n".join(lines))

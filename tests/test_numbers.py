@@ -134,9 +134,9 @@ class Numbered(unittest.TestCase):
         # A generous bound: less than a tenth of it is needed, and with lists of all rules far more.
         rule = Rule.of("forget f; cap 4; forget a; forget b; forget c; forget d; forget e; cap 3; touch b")
         numbers = [12000 * turn for turn in range(300)]
-        rules = within_seconds(0.75, lambda: [nth(NAMES, 3, number) for number in numbers])
+        rules = within_seconds(1, lambda: [nth(NAMES, 3, number) for number in numbers])
         self.assertEqual([number_of(own) for own in rules], numbers)
-        found = within_seconds(0.75, lambda: [number_of(rule) for _ in range(300)])
+        found = within_seconds(1, lambda: [number_of(rule) for _ in range(300)])
         self.assertEqual(found, found[:1] * 300)
         self.assertIs(nth(NAMES, 3, found[0]) == rule, True)
 
