@@ -4,10 +4,12 @@ import random
 import unittest
 
 from tests.desks import HandBoard, Refused
-from tests.drawn import VIEWS, alike, compared, drawn_deed, drawn_text, within
+from tests.drawn import VIEWS, alike, compared, drawn_deed, drawn_text, real, within
 from tests.moments import at_once
+from touchcaps.board import Board
 from touchcaps.desk import answers
-from touchcaps.errors import BadLine
+from touchcaps.errors import BadLine, Stopped
+from touchcaps.rows import row_text
 
 GREAT = 10 ** 40
 
@@ -59,6 +61,22 @@ class Desk(unittest.TestCase):
             self.assertIn(answer, found)
         for name in ("NoName", "NoView", "NoFrame", "Outside"):
             self.assertIn(f"refused {name}", found)
+
+    def test_beside_the_board_itself(self):
+        for seed in range(40):
+            chance = random.Random(seed)
+            deeds, board, expected = [drawn_deed(chance) for _ in range(40)], Board(), []
+            for deed in deeds:
+                try:
+                    board.attempt((real(deed),))
+                    expected.append("done")
+                except Stopped as error:
+                    expected.append(f"refused {error.raised}")
+            asked = ["row", "common", "unseen", "doubled", *[f"shown {name}" for name in board.names]]
+            found = answers("\n".join([*[line_of(deed) for deed in deeds], *asked]))
+            self.assertEqual(found[:40], expected)
+            rows = [board.row, board.common(), board.unseen(), board.doubled(), *[board.shown(name) for name in board.names]]
+            self.assertEqual(found[40:], [row_text(row) for row in rows])
 
     def test_each_request(self):
         lines = [

@@ -92,6 +92,33 @@ class Language(unittest.TestCase):
             and not isinstance(node.comparators[-1], ast.Constant)
         )
 
+    def test_stars_in_calls(self):
+        self.each(
+            (name, node) for name, node in nodes(ast.Call) for part in node.args
+            if isinstance(part, ast.Starred) and not isinstance(part.value, (ast.Name, ast.Attribute))
+        )
+        self.each((name, node) for name, node in nodes(ast.Call) if any(word.arg is None for word in node.keywords))
+
+    def test_sets_are_not_kept(self):
+        # But for those that a function makes by set(), as a statement of its own, and adds to.
+        kept = [node.value for _, node in nodes(ast.Assign) if ast.unparse(node.value) == "set()"]
+        held = [part for _, node in nodes(ast.Call) if ast.unparse(node.func) in ("sorted", "len") for part in node.args]
+        held.extend(part for own in list(held) if isinstance(own, ast.BinOp) for part in (own.left, own.right))
+        self.each(
+            (name, node) for name, node in nodes((ast.Call, ast.Set, ast.SetComp))
+            if (not isinstance(node, ast.Call) or ast.unparse(node.func) == "set") and node not in kept + held
+        )
+
+    def test_errors_that_are_caught(self):
+        own = at_top(TREES["errors.py"])
+        for _, node in nodes(ast.ExceptHandler):
+            parts = node.type.elts if isinstance(node.type, ast.Tuple) else [node.type]
+            self.assertEqual([part.id for part in parts if part.id not in own], [])
+        for name, node in nodes(ast.FunctionDef):
+            caught = [part.name for part in ast.walk(node) if isinstance(part, ast.ExceptHandler) and part.name]
+            self.assertEqual(len(set(caught)), len(caught), name)
+            self.assertEqual([one for one in caught if one in bound(node)], [], name)
+
     def test_imports(self):
         for name, tree in TREES.items():
             places = [place for place, node in enumerate(tree.body) if isinstance(node, ast.ImportFrom)]

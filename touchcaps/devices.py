@@ -70,9 +70,12 @@ def state_behind(devices, where, state, name):
     ends = []
     for own, at in zip(devices, state):
         end = at
-        # Earlier touches of what is told already change nothing.
-        while end < len(own) and (own[end] == name or is_told(where[own[end]], state)):
+        # In no state a device has a NAME next that is told already: so those with another one next stay.
+        if name in own[at:at + 1]:
             end += 1
+            # Earlier touches of what is told already change nothing.
+            while end < len(own) and is_told(where[own[end]], state):
+                end += 1
         ends.append(end)
     return tuple(ends)
 
