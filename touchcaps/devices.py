@@ -66,7 +66,7 @@ def is_told(places, state):
 
 
 def state_behind(devices, where, state, name):
-    """The state in which this NAME, one of the next ones, is told, too; where tells the places of all NAMEs."""
+    """The state in which this NAME is told, too, if it is one of the next ones; where tells the places of all NAMEs."""
     ends = []
     for own, at in zip(devices, state):
         end = at
@@ -168,12 +168,10 @@ def order_to(devices, row, joined, *, cap=None):
     # Their numbers, the last touch first.
     numbers = []
     for name in joined:
-        firsts = [number for number, own in enumerate(devices) if name in own[state[number]:state[number] + 1]]
-        # The first of these tells the NAME: it is told already where it comes again.
-        others = [number for number in range(len(devices)) if number not in firsts]
+        # Each device that comes on has this NAME next: so it is told first, whichever of them it is.
         behind = state_behind(devices, where, state, name)
-        for number in [*firsts, *others]:
-            numbers.extend([number] * (behind[number] - state[number]))
+        for number, (at, end) in enumerate(zip(state, behind)):
+            numbers.extend([number] * (end - at))
         state = behind
     # Of what is left no more NAMEs of joined are told: so any order does.
     for number, own in enumerate(devices):
